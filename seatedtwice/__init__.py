@@ -1,0 +1,1 @@
+"""Seatedtwice: scripts over things that nobody has seen."""
