@@ -467,6 +467,110 @@ def check_iterated(source, sources):
             yield source.at(node), f"{called_name(node)} that is not iterated at once"
 
 
+def generators(sources):
+    """The names of all functions and methods that yield."""
+    return {node.name for source in sources for node in source.nodes(ast.FunctionDef) if yields(node)}
+
+
+def yields(function):
+    """Whether a function yields by itself, not only in a function that is nested in it."""
+    left = list(function.body)
+    while left:
+        node = left.pop()
+        if isinstance(node, (ast.Yield, ast.YieldFrom)):
+            return True
+        if not isinstance(node, FUNCTIONS):
+            left.extend(ast.iter_child_nodes(node))
+    return False
+
+
+def check_generators(source, sources):
+    """L23 generators are iterated at once, beside plain arguments, and yield in statements of their own."""
+    names = generators(sources)
+    for node in source.nodes(ast.Yield, ast.YieldFrom):
+        if not isinstance(source.parents[node], ast.Expr) or source.is_inside(node, (ast.Try, ast.With)):
+            yield source.at(node), "a yield that is no statement of its own, or under a try"
+    for node in source.nodes(ast.FunctionDef):
+        same = [other for file in sources for other in file.nodes(ast.FunctionDef) if other.name == node.name]
+        if yields(node) and (len(same) > 1 or node.decorator_list or node.name.startswith("__") or node.name in METHODS):
+            yield source.at(node), f"the generator {node.name} has the name of something else"
+        if yields(node) and [part for part in ast.walk(node) if isinstance(part, ast.Return) and part.value]:
+            yield source.at(node), f"the generator {node.name} returns something"
+    for node in source.nodes(ast.Name, ast.Attribute):
+        name = node.id if isinstance(node, ast.Name) else node.attr
+        if name not in names:
+            continue
+        call = source.parents[node]
+        if not isinstance(call, ast.Call) or call.func is not node:
+            yield source.at(node), f"the generator {name} as a value"
+            continue
+        parent = source.parents[call]
+        is_loop = isinstance(parent, (ast.For, ast.comprehension)) and parent.iter is call
+        is_passed = isinstance(parent, ast.Call) and called_name(parent) in ITERATORS - {"len", "reversed"}
+        if not (is_loop or is_passed or isinstance(parent, ast.YieldFrom)):
+            yield source.at(node), f"the generator {name} that is not iterated at once"
+        if not all(isinstance(part, (ast.Name, ast.Attribute, ast.Constant, ast.Lambda)) for part in call.args):
+            yield source.at(node), f"the generator {name} beside what is no name, attribute, literal or lambda"
+
+
+def check_lambdas(source, sources):
+    """L13 no two lambdas with the same parameters on one line."""
+    found = [(node.lineno, ast.unparse(node.args)) for node in source.nodes(ast.Lambda)]
+    for place in sorted(set(found)):
+        if found.count(place) > 1:
+            yield f"{source.name}.py:{place[0]}", "two lambdas with the same parameters"
+
+
+def check_targets(source, sources):
+    """L18 attributes are assigned through a local name, items of what stands at module level are not."""
+    names = set(module_names(source)) | {alias.name for node in source.nodes(ast.ImportFrom) for alias in node.names}
+    for node in source.nodes(ast.Attribute, ast.Subscript):
+        if isinstance(node.ctx, ast.Load):
+            continue
+        root = node.value
+        while isinstance(root, (ast.Attribute, ast.Subscript)):
+            if isinstance(root, ast.Subscript) and isinstance(node, ast.Attribute):
+                yield source.at(node), "an attribute of an item is assigned"
+            root = root.value
+        if not isinstance(root, ast.Name) or root.id in names:
+            yield source.at(node), "an attribute or an item is assigned that belongs to no local name"
+
+
+def check_module_values(source, sources):
+    """L15 lists and dicts at module level are only read."""
+    changing = set("append clear extend insert pop remove reverse setdefault sort update add discard".split())
+    names = [node.targets[0].id for node in source.tree.body
+             if isinstance(node, ast.Assign) and isinstance(node.value, (ast.List, ast.Dict))]
+    for node in source.nodes(ast.Name):
+        if node.id not in names or isinstance(node.ctx, ast.Store):
+            continue
+        parent = source.parents[node]
+        is_read = isinstance(parent, (ast.Subscript, ast.Compare, ast.For, ast.comprehension))
+        is_asked = isinstance(parent, ast.Attribute) and parent.attr not in changing
+        is_copied = isinstance(parent, ast.Call) and called_name(parent) in ("list", "dict", "len", "sorted", "tuple")
+        if not (is_read or is_asked or is_copied):
+            yield source.at(node), f"{node.id} is handed on"
+
+
+def check_stars(source, sources):
+    """L7 calls with stars: behind the star names and attributes, never with builtins but `max`, `min` and `zip`."""
+    for node in source.nodes(ast.Call):
+        stars = [part.value for part in node.args if isinstance(part, ast.Starred)]
+        stars += [part.value for part in node.keywords if part.arg is None]
+        if not stars:
+            continue
+        if called_name(node) in BUILTINS - {"max", "min", "zip"} | METHODS | CAUGHT:
+            yield source.at(node), f"a star in a call of {called_name(node)}"
+        if not all(isinstance(part, (ast.Name, ast.Attribute, ast.Constant)) for part in stars):
+            yield source.at(node), "a star before what is no name and no attribute"
+
+
+def check_nested(source, sources):
+    """L4 functions within functions, and lambdas, do not assign to variables around them; no `nonlocal` is needed."""
+    for node in source.nodes(ast.Nonlocal, ast.Global):
+        yield source.at(node), "a variable of another function is assigned"
+
+
 def check_methods(source, sources):
     """L25 only the listed methods of builtin values, and own ones."""
     own = own_methods(sources)
@@ -526,4 +630,5 @@ def check_equality(source, sources):
 CHECKS = [check_files, check_imports, check_cycles, check_module_level, check_functions, check_classes,
           check_method_names, check_statements, check_errors, check_values, check_builtins, check_sizes, check_names,
           check_sets, check_characters, check_shadows, check_barred_names, check_is, check_calls, check_iterated,
-          check_methods, check_own_attributes, check_strings, check_equality]
+          check_methods, check_own_attributes, check_strings, check_equality, check_generators, check_lambdas,
+          check_targets, check_module_values, check_stars, check_nested]

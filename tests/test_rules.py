@@ -8,7 +8,7 @@ from tests.rules import PACKAGE, Source, complaints
 
 FOLDER = os.path.join(os.path.dirname(os.path.dirname(os.path.abspath(__file__))), PACKAGE)
 
-# What the interface lists for each module that has landed: functions, and classes with their methods.
+# What the interface lists for each module that has landed: functions (None), and classes with their methods.
 INTERFACE = {
     "errors": {name: ["__init__"] for name in """BadScene BadWorld BadScript BadSaying BadWalk NoThing NoRow NoMark
                BadInputs NotBare BadName NoButton Taken NoGuard Barred""".split()}
@@ -16,6 +16,9 @@ INTERFACE = {
     "scenes": {"Scene": ["__init__", "__eq__"]},
     "worlds": {"World": ["__init__", "__getitem__", "__len__", "__contains__", "__eq__", "marked", "lots", "cut", "form",
                          "renamed"]},
+    "scripts": {"Script": ["__init__", "run", "steps", "visited", "after"]},
+    "compare": {name: None for name in "parting alike beyond is_within leaving leave_alike hanging".split()},
+    "cases": {"cases": None, "case_of": None},
 }
 
 # For each rule, lines that break it: each must be complained about under the number of the rule.
@@ -36,6 +39,7 @@ BREACHES = [
     ("L4", "def f(x, to=[]):\n    return x\n"),
     ("L4", "def f(x: int):\n    return x\n"),
     ("L4", "def g(x):\n    return x\n\n\n@g\ndef f(x):\n    return x\n"),
+    ("L4", "def f():\n    x = 1\n\n    def g():\n        nonlocal x\n        x = 2\n\n    return g\n"),
     ("L5", "class A:\n    def __hash__(self):\n        return 1\n"),
     ("L5", "class A:\n    def __getitem__(self, at):\n        return at\n"),
     ("L5", "def f():\n    class A:\n        pass\n"),
@@ -47,6 +51,8 @@ BREACHES = [
     ("L7", "A = 1.5\n"),
     ("L7", "def f(x):\n    return ...\n"),
     ("L7", "def f(xs):\n    ys = (x for x in xs)\n    return list(ys)\n"),
+    ("L7", "def f(x):\n    return f(*x[1:])\n"),
+    ("L7", "def f(x):\n    return len(*x)\n"),
     ("L8", "def f(x):\n    return print(x)\n"),
     ("L8", "def f(x):\n    return hash(x)\n"),
     ("L8", "def f(x):\n    return chr(x)\n"),
@@ -56,14 +62,20 @@ BREACHES = [
     ("L12", "def f(__x):\n    return __x\n"),
     ("L12", "def f():\n    _wall = 1\n    return _wall\n"),
     ("L12", "def f():\n    for _ in 'ab':\n        return _\n"),
+    ("L13", "def f():\n    return [lambda x: 1, lambda x: 2]\n"),
     ("L14", "A = '\xe9'\n"),
     ("L15", "def f(min):\n    return min\n"),
     ("L15", "class Box:\n    pass\n\n\ndef f(Box):\n    return Box\n"),
     ("L15", "def hash(x):\n    return x\n"),
+    ("L15", "A = {1: 2}\n\n\ndef f():\n    return A\n"),
+    ("L15", "A = [1]\n\n\ndef f():\n    A.append(2)\n"),
     ("L17", "def f(x):\n    return type(x)\n"),
     ("L17", "def f(x):\n    x.elements = 1\n"),
     ("L17", "def f(x):\n    vars = x\n    return vars\n"),
     ("L18", "class A:\n    def __init__(self):\n        self.f = 1\n\n    def f(self):\n        return 1\n"),
+    ("L18", "def f(x):\n    x[0].name = 1\n"),
+    ("L18", "A = [1]\n\n\ndef f():\n    A[0] = 1\n"),
+    ("L18", "def f(x):\n    x().name = 1\n"),
     ("L19", "def f(x):\n    try:\n        x()\n    except Exception:\n        pass\n"),
     ("L19", "def f(x):\n    try:\n        x()\n    except:\n        pass\n"),
     ("L19", "def f(x):\n    raise x\n"),
@@ -73,6 +85,11 @@ BREACHES = [
     ("L22", "def f(x):\n    return x.split(sep='a')\n"),
     ("L23", "def f(x, y):\n    return zip(x, y)\n"),
     ("L23", "def f(x):\n    return x.keys()\n"),
+    ("L23", "def g():\n    yield 1\n\n\ndef f():\n    return g()\n"),
+    ("L23", "def g():\n    yield 1\n\n\ndef f():\n    return g\n"),
+    ("L23", "def g(x):\n    yield x\n\n\ndef f():\n    return list(g([1]))\n"),
+    ("L23", "def g():\n    x = yield 1\n    return x\n"),
+    ("L23", "class A:\n    def g(self):\n        yield 1\n\n\ndef g():\n    return 1\n"),
     ("L24", "def f(x):\n    return set(x)\n"),
     ("L24", "def f(x):\n    for k in {1, 2}:\n        x(k)\n"),
     ("L25", "def f(x):\n    return x.encode()\n"),
@@ -137,10 +154,14 @@ class Interface(unittest.TestCase):
             source = Source(module, texts[module])
             classes = {node.name: [part.name for part in node.body if isinstance(part, ast.FunctionDef)]
                        for node in source.tree.body if isinstance(node, ast.ClassDef)}
+            functions = [node.name for node in source.tree.body if isinstance(node, ast.FunctionDef)]
             for name, methods in listed.items():
                 with self.subTest(module, name=name):
-                    self.assertIn(name, classes)
-                    self.assertEqual([method for method in methods if method not in classes[name]], [])
+                    if methods is None:
+                        self.assertIn(name, functions)
+                    else:
+                        self.assertIn(name, classes)
+                        self.assertEqual([method for method in methods if method not in classes[name]], [])
 
 
 if __name__ == "__main__":
