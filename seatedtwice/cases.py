@@ -1,21 +1,32 @@
 """Cases: the finitely many ways in which a run of a script can go."""
 
-from seatedtwice.growing import growing
+from seatedtwice.growing import Stand, growing
 from seatedtwice.parts import kinds_of, letters_for, parts_of, with_letters, world_from
 from seatedtwice.programs import finish, finished, outputs_of
 from seatedtwice.states import first_comings
 
 
+class OneRun:
+    """A search for all worlds whose things are all visited by the run of a script."""
+
+    def __init__(self, script):
+        self.kinds = kinds_of(script.scene)
+        self.many = len(script.takes)
+        self.spare = 0
+        self._program = script.program
+
+    def begun(self, things, parts, inputs):
+        return Stand(things, parts, inputs, [finished(self._program, things, parts, inputs)])
+
+    def hopes(self, stand):
+        return stand.spare < self.spare
+
+
 def cases(script):
     """A list of all cases of a script, as tuples (world, inputs, outputs)."""
-    kinds = kinds_of(script.scene)
-    many = len(script.takes)
-
-    def play(parts, inputs):
-        return [finished(script.program, parts, inputs)]
-
+    searches = [OneRun(script)]
     found = {}
-    for stand in growing(kinds, many, play, 0):
+    for stand in growing(searches):
         case = case_behind(script, stand.parts, stand.inputs, stand.states[0])
         found[place_of(case)] = case
     return [found[place] for place in sorted([str(place) for place in found])]

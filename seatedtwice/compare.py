@@ -1,12 +1,12 @@
 """Comparing scripts: whether two tell the same or leave the same, and on what one hangs."""
 
 from seatedtwice.errors import NoRow, OtherScene, Unlike
-from seatedtwice.growing import growing
-from seatedtwice.names import lines_of
-from seatedtwice.parts import LOTS, MARK, ROW, kinds_of, letters_for, with_letters, world_from
-from seatedtwice.programs import finished, outputs_of
+from seatedtwice.growing import Stand, growing
+from seatedtwice.parts import ROW, kinds_of, kinds_within
+from seatedtwice.programs import finished, outputs_of, reached, within
+from seatedtwice.shown import told, told_pair
 
-# What two scripts leave may differ in two things that no run visits.
+# What two scripts leave may differ in the order of two things that no run visits.
 SPARE = 2
 # Under this key stands the other order of a row (the other bearers of a mark, the other lots): it is no name.
 OTHER = ""
@@ -15,7 +15,13 @@ OTHER = ""
 def parting(one, two):
     """None, or a tuple (world, inputs) for which the outputs of two scripts are not the same."""
     check_takes_and_gives(one, two)
-    return shown(one, two, 0, lambda state, other: outputs_of(one.program, state) != outputs_of(two.program, other))
+    check_scenes(one, two)
+    searches = [TwoRuns(one, two, [])]
+    for stand in growing(searches):
+        state, other = stand.states
+        if outputs_of(one.program, state) != outputs_of(two.program, other):
+            return told(one.scene, stand)
+    return None
 
 
 def alike(one, two):
@@ -26,12 +32,14 @@ def alike(one, two):
 def beyond(one, two):
     """None, or a tuple (world, inputs) for which the first script gives things alone, and the second not the same."""
     check_takes_and_gives(one, two)
-
-    def is_beyond(state, other):
+    check_scenes(one, two)
+    searches = [TwoRuns(one, two, [])]
+    for stand in growing(searches):
+        state, other = stand.states
         outputs = outputs_of(one.program, state)
-        return None not in outputs and outputs != outputs_of(two.program, other)
-
-    return shown(one, two, 0, is_beyond)
+        if None not in outputs and outputs != outputs_of(two.program, other):
+            return told(one.scene, stand)
+    return None
 
 
 def is_within(one, two):
@@ -42,7 +50,15 @@ def is_within(one, two):
 def leaving(one, two):
     """None, or a tuple (world, inputs) for which the worlds behind two scripts differ."""
     check_takes(one, two)
-    return shown(one, two, SPARE, lambda state, other: state.parts != other.parts)
+    check_scenes(one, two)
+    searches = [TwoRuns(one, two, names) for names in changed_together(one, two)]
+    if not searches:
+        return None
+    for stand in growing(searches):
+        state, other = stand.states
+        if state.parts != other.parts:
+            return told(one.scene, stand)
+    return None
 
 
 def leave_alike(one, two):
@@ -54,20 +70,13 @@ def hanging(script, name):
     """None, or a tuple (world, other, inputs) that shows that the script hangs on a row, a mark or lots."""
     if name not in kinds_of(script.scene):
         raise NoRow(name)
-    kinds = asked_kinds([script])
-    if name not in kinds:
+    if name not in reached([script.program], []):
         return None
-    kinds[OTHER] = kinds[name]
-    many = len(script.takes)
-    program = script.program
-
-    def play(parts, inputs):
-        return [finished(program, parts, inputs), finished(program, {**parts, name: parts[OTHER]}, inputs)]
-
-    for stand in growing(kinds, many, play, 0):
+    searches = [OtherPart(script, name)]
+    for stand in growing(searches):
         state, other = stand.states
-        if outputs_of(program, state) != outputs_of(program, other):
-            return told_pair(script.scene, stand, name)
+        if outputs_of(script.program, state) != outputs_of(script.program, other):
+            return told_pair(script.scene, stand, name, stand.parts[OTHER])
     return None
 
 
@@ -84,55 +93,66 @@ def check_takes_and_gives(one, two):
         raise Unlike()
 
 
-def shown(one, two, spare, shows):
-    """The (world, inputs) with the fewest things where `shows` is true of the states behind the two runs, or None."""
+def check_scenes(one, two):
+    """Two scripts must be over one scene."""
     if not one.scene == two.scene:
         raise OtherScene()
-    kinds = asked_kinds([one, two])
-    many = len(one.takes)
-
-    def play(parts, inputs):
-        return [finished(one.program, parts, inputs), finished(two.program, parts, inputs)]
-
-    for stand in growing(kinds, many, play, spare):
-        state, other = stand.states
-        if shows(state, other):
-            return told(one.scene, stand)
-    return None
 
 
-def asked_kinds(scripts):
-    """The kinds of the parts that lines of the scripts can name: how things stand in the others plays no part."""
-    words = {word: True for script in scripts for line in lines_of(script.text) for word in line.split(" ")}
-    kinds = kinds_of(scripts[0].scene)
-    return {name: kind for name, kind in kinds.items() if name in words or (name == LOTS and "with" in words)}
+def changed_together(one, two):
+    """Lists of the rows and marks that the scripts change: in one list those that hang on what the others hang on."""
+    programs = [one.program, two.program]
+    names = [name for name in kinds_of(one.scene) if name in one.program.links() or name in two.program.links()]
+    fields = [reached(programs, [name]) for name in names]
+    kept = []
+    for at, field in enumerate(fields):
+        others = fields[at + 1:] + kept
+        if not any([is_part(field, other) for other in others]):
+            kept.append(field)
+    return [[name for name in names if name in field] for field in kept]
 
 
-def filled(scene, parts, things):
-    """The parts, and for those of the scene that lack any in which the things can stand."""
-    whole = {}
-    for name, kind in kinds_of(scene).items():
-        if name in parts:
-            whole[name] = parts[name]
-        elif kind == ROW:
-            whole[name] = things
-        elif kind == MARK:
-            whole[name] = {}
-        else:
-            whole[name] = {thing: True for thing in things}
-    return whole
+def is_part(names, others):
+    """Whether all names are among the others."""
+    return all([name in others for name in names])
 
 
-def told(scene, stand):
-    """The tuple (world, inputs) of a stand, the world in its form."""
-    parts = filled(scene, stand.parts, stand.things)
-    names = letters_for(parts[scene.rows[0]])
-    return world_from(scene, parts, names), with_letters(stand.inputs, names)
+class TwoRuns:
+    """A search for worlds where the runs of two scripts do not do the same to the registers or to some parts."""
+
+    def __init__(self, one, two, names):
+        programs = [one.program, two.program]
+        asked = reached(programs, names)
+        self.kinds = kinds_within(one.scene, asked)
+        self.many = len(one.takes)
+        self.spare = 0
+        if ROW in [self.kinds[name] for name in names]:
+            self.spare = SPARE
+        self._programs = [within(program, asked) for program in programs]
+
+    def begun(self, things, parts, inputs):
+        return Stand(things, parts, inputs, [finished(program, things, parts, inputs) for program in self._programs])
+
+    def hopes(self, stand):
+        return stand.spare < self.spare
 
 
-def told_pair(scene, stand, name):
-    """The tuple (world, other, inputs) of a stand with two orders of a row (or of what else has this name)."""
-    parts = filled(scene, stand.parts, stand.things)
-    names = letters_for(parts[scene.rows[0]])
-    other = {**parts, name: stand.parts[OTHER]}
-    return world_from(scene, parts, names), world_from(scene, other, names), with_letters(stand.inputs, names)
+class OtherPart:
+    """A search for worlds where a script tells something else if a row, a mark or the lots are other ones."""
+
+    def __init__(self, script, name):
+        asked = reached([script.program], [])
+        self.kinds = kinds_within(script.scene, asked)
+        self.kinds[OTHER] = self.kinds[name]
+        self.many = len(script.takes)
+        self.spare = 0
+        self._name = name
+        self._program = within(script.program, asked)
+
+    def begun(self, things, parts, inputs):
+        changed = {**parts, self._name: parts[OTHER]}
+        return Stand(things, parts, inputs, [finished(self._program, things, parts, inputs),
+                                             finished(self._program, things, changed, inputs)])
+
+    def hopes(self, stand):
+        return stand.spare < self.spare

@@ -12,28 +12,30 @@ MOST_OPEN = 10
 class ConditionReader:
     """Reads the condition that words from some index on make; raises BadSaying(index) with the first wrong word."""
 
-    def __init__(self, scene, words, at, has_it):
+    def __init__(self, scene, words, spot, has_it):
         self.scene = scene
         self.words = words
-        self.at = at
+        self.spot = spot
         self.has_it = has_it
-        # The indexes of the words that are registers.
-        self.spots = []
+        # The names of the registers, and those of the rows and marks (and `lots`) that it asks.
+        self.holders = []
+        self.asked = []
+        self.many_nots = 0
         self._many_parts = 0
         self._many_open = 0
 
     def whole(self):
         """The condition of all words."""
         condition = self._alternatives()
-        if self.at < len(self.words):
-            raise BadSaying(self.at)
+        if self.spot < len(self.words):
+            raise BadSaying(self.spot)
         return condition
 
     def _alternatives(self):
         """What `or` joins."""
         condition = self._conjunction()
         while self._word() == "or":
-            self.at += 1
+            self.spot += 1
             condition = one_of(condition, self._conjunction())
         return condition
 
@@ -41,7 +43,7 @@ class ConditionReader:
         """What `and` joins."""
         condition = self._denied()
         while self._word() == "and":
-            self.at += 1
+            self.spot += 1
             condition = both_of(condition, self._denied())
         return condition
 
@@ -51,11 +53,13 @@ class ConditionReader:
         if word != "not" and word != "(":
             return self._part()
         if self._many_open == MOST_OPEN:
-            raise BadSaying(self.at)
+            raise BadSaying(self.spot)
         self._many_open += 1
-        self.at += 1
+        self.spot += 1
         if word == "not":
+            self.many_nots += 1
             condition = none_of(self._denied())
+            self.many_nots -= 1
         else:
             condition = self._alternatives()
             self._take([")"])
@@ -64,20 +68,21 @@ class ConditionReader:
 
     def _part(self):
         if self._many_parts == MOST_PARTS:
-            raise BadSaying(self.at)
+            raise BadSaying(self.spot)
         self._many_parts += 1
         name = self._holder()
         word = self._take(self._words_behind_holder())
         if word == "missing":
             return missing(name)
         if word == "has":
-            return has(name, self._take(self.scene.marks))
+            return has(name, self._take_asked(self.scene.marks))
         other = self._holder()
         if word == "is":
             return same(name, other)
         if word == "with":
+            self.asked.append(LOTS)
             return together(name, other)
-        return ahead(name, other, self._take(self.scene.rows))
+        return ahead(name, other, self._take_asked(self.scene.rows))
 
     def _words_behind_holder(self):
         """The words that can stand second in a part."""
@@ -90,26 +95,32 @@ class ConditionReader:
 
     def _word(self):
         """The word that comes next; the empty text, which is right nowhere, if there is none."""
-        if self.at < len(self.words):
-            return self.words[self.at]
+        if self.spot < len(self.words):
+            return self.words[self.spot]
         return ""
 
     def _take(self, allowed):
         """The next word, which must be one of these."""
         word = self._word()
         if word not in allowed:
-            raise BadSaying(self.at)
-        self.at += 1
+            raise BadSaying(self.spot)
+        self.spot += 1
         return word
+
+    def _take_asked(self, allowed):
+        """The next word, which must be one of these rows or marks."""
+        name = self._take(allowed)
+        self.asked.append(name)
+        return name
 
     def _holder(self):
         """The next word, which must be a register or, where it may stand, `it`."""
         word = self._word()
         if not is_name(word) and not (self.has_it and word == IT):
-            raise BadSaying(self.at)
+            raise BadSaying(self.spot)
         if word != IT:
-            self.spots.append(self.at)
-        self.at += 1
+            self.holders.append(word)
+        self.spot += 1
         return word
 
 

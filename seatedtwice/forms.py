@@ -4,9 +4,11 @@ from seatedtwice.conditions import ConditionReader
 from seatedtwice.errors import BadSaying
 from seatedtwice.names import is_name
 
-WALKS = ("next", "prev", "first", "last")
 BLOCK_WORDS = ("if", "else", "times", "end")
 NUMBERS = ("1", "2", "3", "4", "5")
+# The words of forms that stand for registers, and for rows and marks.
+REGISTERS = ("A", "B")
+PARTS = ("ROW", "OTHER", "MARK")
 
 
 def take_next(state, name, start, row, condition=None):
@@ -84,71 +86,75 @@ def unset_mark(state, name, mark):
         state.change(mark, {one: True for one in state.parts[mark] if one != thing})
 
 
-def skip_unless(state, condition, target):
-    """Go to a line if the condition is false."""
+def skip_unless(state, condition, many):
+    """Skip so many lines if the condition is false."""
     if not condition(state):
-        state.at = target
+        state.line += many
 
 
-def skip(state, target):
-    """Go to a line."""
-    state.at = target
+def skip(state, many):
+    """Skip so many lines."""
+    state.line += many
 
 
 def begin_times(state, many):
     state.left.append(int(many))
 
 
-def end_block(state, start=None):
-    """Do a `times` block again from its first line, as often as is left; nothing is to be done for other blocks."""
-    if start is None:
+def end_block(state, many=None):
+    """Go so many lines back in a `times` block, as often as is left; nothing is to be done for other blocks."""
+    if many is None:
         return
     state.left[-1] -= 1
     if state.left[-1] > 0:
-        state.at = start
+        state.line -= many
     else:
         state.left.pop()
 
 
-# Words in capital letters stand for what a line may have at their place.
+def stay(state):
+    """Nothing happens."""
+
+
+WALKS = ("next", "prev", "first", "last")
+DEEDS = ("put", "swap", "turn", "sort", "gather", "mark", "unmark")
+# The forms of lines under the word that tells them apart: the first one, or the one behind `=`, or `=` if that is a
+# register. Words in capital letters stand for what a line may have at their place.
 FORMS = {
-    "A = next B ROW": take_next,
-    "A = next B ROW where COND": take_next,
-    "A = prev B ROW": take_prev,
-    "A = prev B ROW where COND": take_prev,
-    "A = first ROW": take_first,
-    "A = first ROW where COND": take_first,
-    "A = last ROW": take_last,
-    "A = last ROW where COND": take_last,
-    "A = B": take_held,
-    "A = nothing": take_nothing,
-    "if COND": skip_unless,
-    "else": skip,
-    "times K": begin_times,
-    "end": end_block,
-    "put A behind B ROW": put_behind,
-    "put A ahead B ROW": put_ahead,
-    "swap A B ROW": swap,
-    "turn ROW": turn,
-    "sort ROW by OTHER": sort_by,
-    "gather ROW where COND": gather,
-    "mark A MARK": set_mark,
-    "unmark A MARK": unset_mark,
+    "next": (("A = next B ROW", take_next), ("A = next B ROW where COND", take_next)),
+    "prev": (("A = prev B ROW", take_prev), ("A = prev B ROW where COND", take_prev)),
+    "first": (("A = first ROW", take_first), ("A = first ROW where COND", take_first)),
+    "last": (("A = last ROW", take_last), ("A = last ROW where COND", take_last)),
+    "=": (("A = B", take_held),),
+    "nothing": (("A = nothing", take_nothing),),
+    "if": (("if COND", skip_unless),),
+    "else": (("else", skip),),
+    "times": (("times K", begin_times),),
+    "end": (("end", end_block),),
+    "put": (("put A behind B ROW", put_behind), ("put A ahead B ROW", put_ahead)),
+    "swap": (("swap A B ROW", swap),),
+    "turn": (("turn ROW", turn),),
+    "sort": (("sort ROW by OTHER", sort_by),),
+    "gather": (("gather ROW where COND", gather),),
+    "mark": (("mark A MARK", set_mark),),
+    "unmark": (("unmark A MARK", unset_mark),),
 }
 
 
 class Line:
-    """A line of a script: its words, the indexes of those that are registers, what it does, and to what."""
+    """A line of a script: its text, its words and its form, what it does and to what, and who read its condition."""
 
-    def __init__(self, words, spots, action, given):
+    def __init__(self, text, words, slots, action, given, reader):
+        self.text = text
         self.words = words
-        self.spots = spots
         self.action = action
         self.given = given
+        self._slots = slots
+        self._reader = reader
 
-    def lead_to(self, target):
-        """The line can go on at another line than the one behind it."""
-        self.given = [*self.given, target]
+    def lead_on(self, many):
+        """The line can go on so many lines away from the one behind it."""
+        self.given = [*self.given, many]
 
     def is_walk(self):
         return len(self.words) > 3 and self.words[2] in WALKS
@@ -157,60 +163,109 @@ class Line:
         """Whether the steps of a run tell what holds behind the line."""
         return self.words[0] not in BLOCK_WORDS
 
-    def with_names(self, names):
-        """The text of the line with new names for its registers."""
-        words = list(self.words)
-        for spot in self.spots:
-            words[spot] = names[words[spot]]
-        return " ".join(words)
+    def registers(self):
+        """The names of its registers."""
+        names = [word for word, slot in zip(self.words, self._slots) if slot in REGISTERS]
+        if self._reader is None:
+            return names
+        return names + self._reader.holders
+
+    def changed(self):
+        """The name of the row or mark that the line changes; None if it changes registers, or what is done next."""
+        if self.action is None or self._slots[0] not in DEEDS:
+            return None
+        return self._parts()[0]
+
+    def sources(self):
+        """The names of the rows and marks (and `lots`) at which the line looks."""
+        names = self._parts()
+        if self.changed() is not None:
+            names = names[1:]
+        if self._reader is None:
+            return names
+        return names + self._reader.asked
+
+    def _parts(self):
+        """The names of the rows and marks that stand in its form."""
+        return [word for word, slot in zip(self.words, self._slots) if slot in PARTS]
 
 
-def read_line(scene, words):
-    """The line that words make, or None if they have none of the forms."""
-    for form, action in FORMS.items():
+def frame_line(text, words):
+    """The line `takes` or `gives`, which is never done: a run begins behind the one and ends before the other."""
+    return Line(text, words, [words[0]] + ["A"] * (len(words) - 1), None, [], None)
+
+
+def holding_line(name, other):
+    """The line by which a register becomes what another one holds."""
+    return Line(f"{name} = {other}", [name, "=", other], ["A", "=", "B"], take_held, [name, other], None)
+
+
+def emptying_line(name):
+    """The line by which a register becomes nothing."""
+    return Line(f"{name} = nothing", [name, "=", "nothing"], ["A", "=", "nothing"], take_nothing, [name], None)
+
+
+def idle_line():
+    """A line that does nothing."""
+    return Line("end", ["end"], ["end"], stay, [], None)
+
+
+def read_line(scene, text, words):
+    """The line of this text, which has these words, or None if it has none of the forms."""
+    for form, action in FORMS.get(key_of(words), ()):
         slots = form.split(" ")
         if slots[-1] == "COND":
             head = slots[:-1]
-            if len(words) >= len(head) and has_form(scene, words, head):
-                return read_with_condition(scene, words, head, action)
-        elif len(words) == len(slots) and has_form(scene, words, slots):
-            return Line(words, spots_of(slots), action, told_by(words, slots))
+            given = told_by(scene, words, head)
+            if given is not None:
+                return read_with_condition(scene, text, words, head, action, given)
+        elif len(words) == len(slots):
+            given = told_by(scene, words, slots)
+            if given is not None:
+                return Line(text, words, slots, action, given, None)
     return None
 
 
-def read_with_condition(scene, words, head, action):
+def key_of(words):
+    """The word that tells which forms a line may have."""
+    if len(words) < 3 or words[1] != "=":
+        return words[0]
+    if words[2] in FORMS:
+        return words[2]
+    return "="
+
+
+def read_with_condition(scene, text, words, head, action, given):
     """The line of a head and a condition behind it, or None if there is none behind it."""
     reader = ConditionReader(scene, words, len(head), head[-1] == "where")
     try:
         condition = reader.whole()
     except BadSaying:
         return None
-    return Line(words, spots_of(head) + reader.spots, action, [*told_by(words, head), condition])
+    return Line(text, words, head, action, [*given, condition], reader)
 
 
-def has_form(scene, words, slots):
-    """Whether each word may stand at its place in a form."""
-    return all([fits(scene, word, slot) for word, slot in zip(words, slots)])
+def told_by(scene, words, slots):
+    """The words that a form leaves open, or None if the words do not begin with this form."""
+    if len(words) < len(slots):
+        return None
+    told = []
+    for word, slot in zip(words, slots):
+        if slot.isupper():
+            if not fits(scene, word, slot):
+                return None
+            told.append(word)
+        elif word != slot:
+            return None
+    return told
 
 
 def fits(scene, word, slot):
-    """Whether a word may stand at a place of a form."""
-    if slot == "A" or slot == "B":
+    """Whether a word may stand where a form leaves it open."""
+    if slot in REGISTERS:
         return is_name(word)
-    if slot == "ROW" or slot == "OTHER":
-        return word in scene.rows
     if slot == "MARK":
         return word in scene.marks
     if slot == "K":
         return word in NUMBERS
-    return word == slot
-
-
-def spots_of(slots):
-    """The indexes of the registers in a form."""
-    return [at for at, slot in enumerate(slots) if slot == "A" or slot == "B"]
-
-
-def told_by(words, slots):
-    """The words of a line that its form leaves open."""
-    return [word for word, slot in zip(words, slots) if slot.isupper()]
+    return word in scene.rows

@@ -2,11 +2,13 @@
 
 LETTERS = "abcdefghijklmnopqrstuvwxyz"
 LONGEST = 12
-WORDS = (
-    "row", "mark", "unmark", "lot", "lots", "takes", "gives", "next", "prev", "first", "last", "where",
-    "nothing", "if", "else", "end", "times", "put", "swap", "turn", "sort", "gather", "by", "ahead", "behind",
-    "is", "has", "with", "missing", "it", "and", "or", "not", "all", "some",
-)
+# No name is one of these words.
+WORDS = {
+    "row": 1, "mark": 1, "unmark": 1, "lot": 1, "lots": 1, "takes": 1, "gives": 1, "next": 1, "prev": 1, "first": 1,
+    "last": 1, "where": 1, "nothing": 1, "if": 1, "else": 1, "end": 1, "times": 1, "put": 1, "swap": 1, "turn": 1,
+    "sort": 1, "gather": 1, "by": 1, "ahead": 1, "behind": 1, "is": 1, "has": 1, "with": 1, "missing": 1, "it": 1,
+    "and": 1, "or": 1, "not": 1, "all": 1, "some": 1,
+}
 
 
 def lines_of(text):
@@ -20,7 +22,7 @@ def is_name(text):
     """Whether a text is a name."""
     if not 1 <= len(text) <= LONGEST or text in WORDS:
         return False
-    return all([letter in LETTERS for letter in text])
+    return text.isascii() and text.isalpha() and text.islower()
 
 
 def form_names(many):

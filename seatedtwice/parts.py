@@ -25,6 +25,11 @@ def kinds_of(scene):
     return kinds
 
 
+def kinds_within(scene, names):
+    """The kinds of those parts of a world over the scene that have one of these names."""
+    return {name: kind for name, kind in kinds_of(scene).items() if name in names}
+
+
 def parts_of(world):
     """The parts of a world."""
     scene = world.scene

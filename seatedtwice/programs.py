@@ -1,159 +1,137 @@
-"""Programs: the lines of a script, read, and doing them."""
+"""Programs: the lines of a script, what hangs on what in them, and doing them."""
 
-from seatedtwice.errors import BadScript
-from seatedtwice.forms import Line, read_line
-from seatedtwice.names import is_name
+from seatedtwice.forms import emptying_line, holding_line, idle_line
+from seatedtwice.names import form_names
 from seatedtwice.states import State
-
-MOST_BLOCKS = 10
-MOST_NAMES = 2
 
 
 class Program:
-    """The lines of a script over a scene; BadScript(line) tells the first line that is wrong or lacking."""
+    """What a script does: its lines with `takes` and `gives`, and how many walks are on a way through them."""
 
-    def __init__(self, scene, lines):
-        self.takes = ()
-        self.gives = ()
-        self.lines = []
-        self._is_over = False
-        # The blocks that are open, the innermost one last; the first one is the script itself.
-        self._blocks = [Block("", 0, 1)]
-        for number, line in enumerate(lines, start=1):
-            if self._is_over or not self._add(scene, line.split(" ")):
-                raise BadScript(number)
-        if not self._is_over:
-            raise BadScript(len(lines) + 1)
-        self.walks = self._blocks[0].most_walks()
+    def __init__(self, takes, gives, lines, walks):
+        self.takes = takes
+        self.gives = gives
+        self.lines = lines
+        self.walks = walks
+        # What was asked for once is kept here.
+        self._registers = None
+        self._changed = None
+        self._links = None
 
-    def _add(self, scene, words):
-        """Read one more line; False if it is wrong."""
-        if not self.lines:
-            return self._add_takes(words)
-        if words[0] == "gives":
-            return self._add_gives(words)
-        line = read_line(scene, words)
-        if line is None or not self._may_stand(words[0]):
-            return False
-        self.lines.append(line)
-        if line.is_walk():
-            self._count_walks(1)
-        self._lead(line, words)
-        return True
-
-    def _add_takes(self, words):
-        self.takes = tuple(words[1:])
-        if words[0] != "takes" or not are_names(self.takes) or len(set(self.takes)) < len(self.takes):
-            return False
-        self.lines.append(frame_line(words))
-        return True
-
-    def _add_gives(self, words):
-        self.gives = tuple(words[1:])
-        if not are_names(self.gives) or len(self._blocks) > 1:
-            return False
-        self.lines.append(frame_line(words))
-        self._is_over = True
-        return True
-
-    def _may_stand(self, word):
-        """Whether a line with this first word can stand here."""
-        if word == "if" or word == "times":
-            return len(self._blocks) <= MOST_BLOCKS
-        if word == "else":
-            return self._blocks[-1].word == "if"
-        return word != "end" or len(self._blocks) > 1
-
-    def _lead(self, line, words):
-        """Open or close a block if the line does, and tell the lines where they lead."""
-        at = len(self.lines) - 1
-        block = self._blocks[-1]
-        if words[0] == "if":
-            self._blocks.append(Block("if", at, 1))
-        elif words[0] == "times":
-            self._blocks.append(Block("times", at, int(words[1])))
-        elif words[0] == "else":
-            self.lines[block.at].lead_to(at + 1)
-            block.begin_else(at)
-        elif words[0] == "end":
-            self._blocks.pop()
-            self._count_walks(block.most_walks())
-            if block.word == "times":
-                line.lead_to(block.at + 1)
-            else:
-                self.lines[block.at].lead_to(at)
-
-    def _count_walks(self, many):
-        """The innermost open block has so many walks more."""
-        block = self._blocks[-1]
-        block.walks += many
+    def written(self):
+        """The text of a script that does this."""
+        return "\n".join([line.text for line in self.lines])
 
     def registers(self):
-        """The names of all registers, each one once."""
-        return list({line.words[spot]: True for line in self.lines for spot in line.spots})
+        """A dict of True for the names of all registers."""
+        if self._registers is None:
+            self._registers = {name: True for line in self.lines for name in line.registers()}
+        return self._registers
 
-    def texts(self, names):
-        """The texts of all lines with new names for the registers."""
-        return [line.with_names(names) for line in self.lines]
+    def changed(self):
+        """A list of the names of the rows and marks that the lines change, None for a line that changes none."""
+        if self._changed is None:
+            self._changed = [line.changed() for line in self.lines]
+        return self._changed
 
+    def links(self):
+        """A dict from the rows and marks that lines change to those at which these lines look, a dict of True each.
 
-class Block:
-    """An open block of lines: the word and the index of the line that leads into it or past it, and its walks."""
+        Under None stand those that decide what registers hold and which lines are done.
+        """
+        if self._links is None:
+            links = {None: {}}
+            for name, line in zip(self.changed(), self.lines):
+                asked = links.setdefault(name, {})
+                for other in line.sources():
+                    asked[other] = True
+            self._links = links
+        return self._links
 
-    def __init__(self, word, at, times):
-        self.word = word
-        self.at = at
-        self.times = times
-        # The walks on a way through the lines so far, and through those before `else`.
-        self.walks = 0
-        self.walks_before = 0
-
-    def begin_else(self, at):
-        self.word = "else"
-        self.at = at
-        self.walks_before = self.walks
-        self.walks = 0
-
-    def most_walks(self):
-        """The walks on a way through the whole block."""
-        if self.walks_before > self.walks:
-            return self.walks_before * self.times
-        return self.walks * self.times
+    def has_blocks(self):
+        return not all([line.is_told() for line in self.lines])
 
 
-def are_names(words):
-    """Whether words can stand behind `takes` or `gives`."""
-    return len(words) <= MOST_NAMES and all([is_name(word) for word in words])
+def reached(programs, names):
+    """A dict of True for the rows and marks (and `lots`) that decide how these stand behind a run.
+
+    Those are always told, too, that decide what registers hold and which lines are done.
+    """
+    told = {name: True for name in names}
+    left = [None, *names]
+    while left:
+        name = left.pop()
+        for program in programs:
+            for other in program.links().get(name, ()):
+                if other not in told:
+                    told[other] = True
+                    left.append(other)
+    return told
 
 
-def frame_line(words):
-    """The line `takes` or `gives`, which is never done: a run begins behind the one and ends before the other."""
-    return Line(words, list(range(1, len(words))), None, [])
+def within(program, names):
+    """The program without what changes other rows and marks than these."""
+    stays = [name is None or name in names for name in program.changed()]
+    if all(stays):
+        return program
+    if program.has_blocks():
+        # A block leads over a number of lines, which must stay as it is.
+        lines = [line if is_kept else idle_line() for line, is_kept in zip(program.lines, stays)]
+    else:
+        lines = [line for line, is_kept in zip(program.lines, stays) if is_kept]
+    return Program(program.takes, program.gives, lines, program.walks)
 
 
-def end_of(program):
-    """The index of the line `gives`, where each run ends."""
-    return len(program.lines) - 1
+def joined(first, then):
+    """The program that does the lines of the first one, hands its outputs on, and does the lines of the other one."""
+    lines = first.lines[:-1] + handing_lines(first, then) + then.lines[1:]
+    return Program(first.takes, then.gives, lines, first.walks + then.walks)
 
 
-def do_line(line, state):
-    """Do a line, the one that comes next."""
-    state.at += 1
-    action = line.action
-    action(state, *line.given)
+def handing_lines(first, then):
+    """The lines between two programs, behind which the registers of the other one hold its inputs and nothing else."""
+    held = first.registers()
+    used = then.registers()
+    lines = [holding_line(name, other) for name, other in in_turn(then.takes, first.gives, {**held, **used})]
+    lines.extend([emptying_line(name) for name in used if name in held and name not in then.takes])
+    return lines
+
+
+def in_turn(takes, gives, known):
+    """Pairs of names: if each first one is given what the second one holds, in turn, `takes` hold what `gives` held."""
+    pairs = [(name, other) for name, other in zip(takes, gives) if name != other]
+    if len(pairs) < 2 or pairs[0][0] != pairs[1][1]:
+        return pairs
+    if pairs[1][0] != pairs[0][1]:
+        return pairs[::-1]
+    # Both exchange what they hold: another register keeps what the first one held.
+    spare = [name for name in form_names(len(known) + 1) if name not in known][0]
+    return [(spare, pairs[0][0]), pairs[0], (pairs[1][0], spare)]
 
 
 def finish(program, state):
     """Do all lines that are left."""
     lines = program.lines
-    end = end_of(program)
-    while state.at < end:
-        do_line(lines[state.at], state)
+    # The line `gives`, at which each run ends, is not done.
+    end = len(lines) - 1
+    while state.line < end:
+        # What do_line does, here without a call for each line of the many runs of a search.
+        line = lines[state.line]
+        state.line += 1
+        action = line.action
+        action(state, *line.given)
 
 
-def finished(program, parts, inputs):
+def do_line(line, state):
+    """Do a line, the one that comes next."""
+    state.line += 1
+    action = line.action
+    action(state, *line.given)
+
+
+def finished(program, things, parts, inputs):
     """The state behind a run."""
-    state = State(parts, dict(zip(program.takes, inputs)))
+    state = State(parts, dict(zip(program.takes, inputs)), things)
     finish(program, state)
     return state
 

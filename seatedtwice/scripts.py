@@ -1,9 +1,10 @@
 """Scripts: reading them, running them in worlds, and doing one behind another."""
 
 from seatedtwice.errors import BadInputs, BadScript, OtherScene, Unlike
-from seatedtwice.names import form_names, lines_of
+from seatedtwice.names import lines_of
 from seatedtwice.parts import parts_of, world_from
-from seatedtwice.programs import Program, do_line, end_of, finish, outputs_of
+from seatedtwice.programs import do_line, finish, joined, outputs_of
+from seatedtwice.scripttexts import read_program
 from seatedtwice.states import State, first_comings
 
 MOST_LINES = 60
@@ -14,7 +15,7 @@ class Script:
 
     def __init__(self, scene, text):
         lines = lines_of(text)
-        program = Program(scene, lines[:MOST_LINES])
+        program = read_program(scene, lines[:MOST_LINES])
         if len(lines) > MOST_LINES:
             raise BadScript(MOST_LINES + 1)
         self._keep(scene, text, program)
@@ -38,10 +39,10 @@ class Script:
         state = self.begun(world, inputs)
         yield 1, state.holding(), world
         changes = 0
-        end = end_of(self.program)
-        while state.at < end:
-            at = state.at
-            line = self.program.lines[at]
+        lines = self.program.lines
+        while state.line < len(lines) - 1:
+            at = state.line
+            line = lines[at]
             do_line(line, state)
             if state.changes > changes:
                 changes = state.changes
@@ -61,21 +62,22 @@ class Script:
             raise Unlike()
         if not self.scene == other.scene:
             raise OtherScene()
-        return JoinedScript(self.scene, joined_text(other.program, self.program))
+        return JoinedScript(self.scene, joined(other.program, self.program))
 
     def begun(self, world, inputs):
         """The state at the beginning of a run; the errors of a run are raised here."""
         check_inputs(world, inputs, len(self.takes))
         if not self.scene == world.scene:
             raise OtherScene()
-        return State(parts_of(world), dict(zip(self.takes, inputs)))
+        parts = parts_of(world)
+        return State(parts, dict(zip(self.takes, inputs)), parts[self.scene.rows[0]])
 
 
 class JoinedScript(Script):
     """A script that is made of two others. It may have more lines than the text of a script."""
 
-    def __init__(self, scene, text):
-        self._keep(scene, text, Program(scene, lines_of(text)))
+    def __init__(self, scene, program):
+        self._keep(scene, program.written(), program)
 
 
 def check_inputs(world, inputs, many):
@@ -93,15 +95,3 @@ def world_behind(world, state):
         return world
     names = {thing: thing for thing in world[world.scene.rows[0]]}
     return world_from(world.scene, state.parts, names)
-
-
-def joined_text(first, then):
-    """The text of the script that does the lines of two programs, with other names for all registers."""
-    names = first.registers()
-    others = then.registers()
-    fresh = form_names(len(names) + len(others))
-    new = dict(zip(names, fresh))
-    # No register of the second one has a name of the first one: it holds nothing before it is given something.
-    new_others = dict(zip(others, fresh[len(names):]))
-    handed = [f"{new_others[name]} = {new[given]}" for name, given in zip(then.takes, first.gives)]
-    return "\n".join(first.texts(new)[:-1] + handed + then.texts(new_others)[1:])

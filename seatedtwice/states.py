@@ -3,15 +3,25 @@
 # What a condition behind `where` asks about is held under this word, which is no name of a register.
 IT = "it"
 
+# How blocks are read: as they are in this world, or as more things could make them to let a saying be true, or false.
+PLAINLY = 0
+FOR_TRUE = 1
+FOR_FALSE = 2
+
 
 class State:
     """A state of a run that has just begun: its parts are copied and then changed by the lines of the script."""
 
-    def __init__(self, parts, held):
+    def __init__(self, parts, held, things):
         self.parts = dict(parts)
         self.held = dict(held)
+        # All things of the world, in any order.
+        self.things = things
+        # Whether what is asked for before the run is true.
+        self.begins_right = True
+        self.hope = PLAINLY
         # The index of the line that comes next; the line `takes` is done.
-        self.at = 1
+        self.line = 1
         # How often the open `times` blocks are still to be done, the outermost one first.
         self.left = []
         # What the walks gave.
@@ -76,6 +86,18 @@ class State:
             if condition(self):
                 found.append(thing)
         self.held[IT] = None
+        return found
+
+    def finds(self, name, condition, sought):
+        """Whether for a thing, while a bound name stands for it, the condition is as it is sought: true or false."""
+        kept = self.held.get(name)
+        found = False
+        for thing in self.things:
+            self.held[name] = thing
+            if condition(self) == sought:
+                found = True
+                break
+        self.held[name] = kept
         return found
 
 

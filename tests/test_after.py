@@ -64,6 +64,29 @@ class After(unittest.TestCase):
             for inputs in [["p", "q"], ["q", "p"], [None, "r"], ["r", "r"]]:
                 self.check(first, Script(SCENE, "\n".join(lines)), WORLD, inputs)
 
+    def test_outputs_that_take_the_places_of_each_other(self):
+        """One script gives what the other one takes under the same names, in another order."""
+        for gives in itertools.product("abcd", repeat=2):
+            for takes in itertools.permutations("abcd", 2):
+                first = Script(SCENE, f"takes a b\nc = next a two\nd = prev b one\ngives {' '.join(gives)}")
+                then = Script(SCENE, f"takes {' '.join(takes)}\nif a missing\nif b missing\nturn one\nend\nend\n"
+                                     f"mark c done\nunmark d done\ngives {' '.join(takes)}")
+                for inputs in itertools.product([None, "p", "q", "s"], repeat=2):
+                    self.check(first, then, WORLD, list(inputs))
+
+    def test_long_ones(self):
+        """Lines that stand in both, many times, and registers that only the second one has."""
+        scene = Scene("row marks\nmark q\nmark rows\nlots")
+        world = World(scene, "row marks p t s\nmark q t\nmark rows\nlot p t\nlot s")
+        for many in range(54, 59):
+            script = Script(scene, "\n".join(["takes", *["turn marks"] * many, "gives"]))
+            self.check(script, script, world, [])
+            lines = ["a = first marks", "b = next a marks where it has q", "mark b rows"] * 18
+            other = Script(scene, "\n".join(["takes", *lines, "c = a", "a = nothing", "gives b c"]))
+            then = Script(scene, "\n".join(["takes a c", *lines, "if c missing", "d = b", "end", "gives c d"]))
+            self.check(script, other, world, [])
+            self.check(other, then, world, [])
+
     def test_registers_of_the_first_one_are_lost(self):
         first = Script(SCENE, "takes a\nb = next a one\nc = b\ngives a")
         then = Script(SCENE, "takes a\nd = nothing\nif b missing\nd = a\nend\ngives d c")

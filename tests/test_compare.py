@@ -201,6 +201,48 @@ class Leaving(Comparing):
         self.check_leaving(MARKED, "takes\na = first one\nmark a done\ngives", "takes\na = last one\nmark a done\ngives", 2)
         self.check_leaving(MARKED, "takes\na = first one\na = next a one\nmark a done\ngives", "takes\ngives", 2)
 
+    def test_rows_and_marks_that_have_nothing_to_do_with_each_other(self):
+        """The fewest things are those of any of them."""
+        three, two = "takes a b\nif a ahead b one\nput a behind b one\nend", "turn two"
+        still = "takes a b\nif a ahead b one\nswap a b one\nend"
+        self.check_leaving(TWO, f"{three}\ngives", f"{still}\ngives", 3)
+        self.check_leaving(TWO, f"{three}\n{two}\ngives", f"{still}\ngives", 2)
+        self.check_leaving(TWO, f"{three}\n{two}\ngives", f"{still}\n{two}\ngives", 3)
+        self.check_leaving(TWO, f"{three}\n{two}\ngives", f"{three}\n{two}\ngives", None)
+        self.check_leaving("row one\nrow two\nrow three\nmark done", "takes a\nturn three\nunmark a done\ngives",
+                           "takes a\nturn three\nmark a done\ngives", 1)
+        self.check_leaving("row one\nrow two\nrow three\nmark done", "takes a\nsort three by two\nmark a done\ngives",
+                           "takes a\nmark a done\nsort three by two\nsort two by three\ngives", None)
+        self.check_leaving("row one\nrow two\nrow three", "takes a\nsort three by two\nsort two by one\ngives",
+                           "takes a\nsort two by one\nsort three by two\ngives", 2)
+        self.check_leaving("row one\nrow two\nmark done", "takes a\nb = next a two\nmark b done\nturn one\ngives",
+                           "takes a\nturn one\nb = next a two\nmark b done\ngives", None)
+        self.check_leaving("row one\nrow two\nmark done", "takes a\nb = next a one\nmark b done\nturn one\ngives",
+                           "takes a\nturn one\nb = next a one\nmark b done\ngives", 2)
+
+    def test_deeds_and_the_same_deeds_backwards(self):
+        scene, long = "row abcdefghijkl\nrow zz", "abcdefghijkl"
+        deeds = ["swap x y zz", "turn zz", f"turn {long}", f"swap x y {long}", f"swap x y {long}", f"swap y x {long}"]
+        two = "\n".join(["takes x y", *deeds, *reversed(deeds), "gives"])
+        self.check_leaving(scene, "takes x y\ngives", two, None)
+        self.check_leaving(scene, "takes x y\ngives", two.replace("\ngives", f"\nswap y x {long}\ngives"), 2)
+        self.check_leaving(scene, "takes x y\ngives", two.replace("turn zz", "swap x y zz", 1), 2)
+        source = random.Random(23)
+        shown = {}
+        for scene_text in [PLAIN, TWO]:
+            scene = plain.Scene(scene_text)
+            for _ in range(40):
+                lines = [source.choice([f"{word} {row}" for word in ("turn", "swap x y", "swap y x") for row in scene.rows])
+                         for _ in range(source.randrange(7))]
+                back = lines[::-1]
+                if lines and source.randrange(3) == 0:
+                    back[source.randrange(len(back))] = source.choice(lines)
+                text = "\n".join(["takes x y", *lines, *back, "gives"])
+                many = plain.fewest(scene, 4, 2, lambda world, inputs: plain.leaves(scene, text, "takes x y\ngives", world, inputs))
+                self.check_leaving(scene_text, text, "takes x y\ngives", many)
+                shown[many] = shown.get(many, 0) + 1
+        self.assertGreater(min(shown[many] for many in (None, 2)), 5)
+
     def test_what_is_given_plays_no_part(self):
         self.check_leaving(PLAIN, "takes a\nb = next a one\ngives b", "takes a\ngives a a", None)
 

@@ -3,9 +3,9 @@
 import random
 import unittest
 
+from seatedtwice.cases import OneRun
 from seatedtwice.growing import all_parts, growing, input_patterns
 from seatedtwice.parts import kinds_of, letters_for, world_from
-from seatedtwice.programs import finished
 from seatedtwice.scenes import Scene
 from seatedtwice.scripts import Script
 from tests import plain
@@ -15,19 +15,27 @@ SCENES = {"row one": 5, "row one\nrow two": 4, "row one\nmark done": 4, "row one
           "row one\nrow two\nmark done\nlots": 3, "row one\nrow two\nrow three\nmark done\nmark seen\nlots": 2}
 
 
+class Search(OneRun):
+    """A search in which things may be there that the run does not visit; it counts its runs."""
+
+    def __init__(self, script, spare):
+        super().__init__(script)
+        self.spare = spare
+        self.runs = 0
+
+    def begun(self, things, parts, inputs):
+        self.runs += 1
+        return super().begun(things, parts, inputs)
+
+
 def stands(script, spare=0):
     """(text of the world in its form, inputs) of all stands, in their order, and how many runs were done."""
-    runs = []
-
-    def play(parts, inputs):
-        runs.append(inputs)
-        return [finished(script.program, parts, inputs)]
-
+    search = Search(script, spare)
     told = []
-    for stand in growing(kinds_of(script.scene), len(script.takes), play, spare):
+    for stand in growing([search]):
         names = letters_for(stand.parts["one"])
         told.append((world_from(script.scene, stand.parts, names).text, tuple([names.get(thing) for thing in stand.inputs])))
-    return told, len(runs)
+    return told, search.runs
 
 
 class Growing(unittest.TestCase):
@@ -77,7 +85,9 @@ class Growing(unittest.TestCase):
                             visited = plain.Run(scene, lines, world, inputs).visited
                             if many - len(visited) <= spare:
                                 want.add((plain.write_world(scene, world), inputs))
-                self.assertEqual(set(stands(script, spare)[0]), want)
+                told = stands(script, spare)[0]
+                self.assertEqual(set(told), want)
+                self.assertEqual(len(told), len(want))
 
     def test_no_search_where_no_walk_can_find_more(self):
         script = Script(Scene("row one\nrow two\nrow three\nmark done\nmark seen\nlots"), "takes a\nturn one\ngives a")

@@ -6,6 +6,7 @@ import unittest
 from seatedtwice.errors import BadScript
 from seatedtwice.scenes import Scene
 from seatedtwice.scripts import Script
+from seatedtwice.worlds import World
 from tests import plain, plain_texts
 from tests.made import Maker, spoiled
 
@@ -417,6 +418,32 @@ def wrong_line(scene, text):
     except BadScript as error:
         return error.line
     return None
+
+
+class SameLines(unittest.TestCase):
+    """Lines with the same text that stand in more than one place."""
+
+    def test_in_blocks_and_outside(self):
+        world = World(MARKED, "row one p q r s\nrow two s r q p\nmark done q s\nmark seen p")
+        scene = plain.Scene(MARKED.text)
+        block = ["if a has done", "a = next a one", "else", "a = next a two", "end", "times 2", "a = next a one", "end"]
+        lines = ["takes a", *block, "a = prev a one", "if a has done", "times 2", *block, "end", "end", *block, "times 2",
+                 "if a has done", "a = prev a one", "end", "end", "gives a"]
+        script = Script(MARKED, "\n".join(lines))
+        self.assertEqual(script.walks, plain.walks(script.text))
+        for thing in [*"pqrs", None]:
+            run = plain.Run(scene, script.text, plain.read_world(scene, world.text), [thing])
+            self.assertEqual(script.run(world, [thing])[0], run.outputs)
+            self.assertEqual([line for line, _, _ in script.steps(world, [thing])], [line for line, _, _ in run.steps])
+
+    def test_the_first_wrong_line_behind_them(self):
+        for many in range(56):
+            lines = ["takes a"] + ["a = next a one"] * many
+            for behind, wrong in [(["a = next a"], 1), (["end"], 1), (["a = next a one", "gives a", "a = next a one"], 3), ([], 1),
+                                  (["takes a"], 1), (["if a missing", "a = next a one", "gives a"], 3), (["gives a", "gives a"], 2)]:
+                with self.assertRaises(BadScript) as caught:
+                    Script(PLAIN, "\n".join(lines + behind))
+                self.assertEqual(caught.exception.line, many + 1 + wrong)
 
 
 if __name__ == "__main__":
