@@ -1,6 +1,6 @@
 """Scripts and worlds that tests make by a seeded random source: the same ones at each run."""
 
-from tests import plain
+from tests import plain, plain_sayings
 
 NAMES = ["a", "b", "c", "one", "done"]
 
@@ -110,6 +110,48 @@ class Maker:
             lines = [line + f" and {self.part(' where ' in line)}" if " where " in line or line[:3] == "if " else line
                      for line in lines]
         return "\n".join(lines)
+
+    def block(self, most, is_bare):
+        """`all` or `some` with at most so many bound names, which may be names of registers."""
+        names = self.random.sample(["x", "y", "a"], self.random.randrange(min(most, 2)) + 1)
+        known = self.known
+        if is_bare or self.random.randrange(2):
+            parts = [self.bound_part(names) for _ in range(self.random.choice([1, 2, 2, 3]))]
+            condition = self.put_together(parts)
+        else:
+            self.known = known + names * 3
+            condition = self.condition(False)
+        self.known = known
+        return " ".join([self.random.choice(["all", "some"]), *names, "(", condition, ")"])
+
+    def bound_part(self, names):
+        """A part about bound names: with two of them mostly about both."""
+        one, other = self.random.sample(names * 2, 2) if len(names) == 1 else self.random.sample(names, 2)
+        kinds = [f"{one} ahead {other} {row}" for row in self.scene.rows] * 2 + [f"{one} is {other}"]
+        kinds += [f"{one} has {mark}" for mark in self.scene.marks] * (4 if len(names) == 1 else 1)
+        if self.scene.has_lots:
+            kinds += [f"{one} with {other}"] * 2
+        return self.random.choice(kinds)
+
+    def put_together(self, parts):
+        """A condition of these parts."""
+        text = self.random.choice(["", "not "]) + parts[0]
+        for part in parts[1:]:
+            text += f" {self.random.choice(['and', 'or'])} {self.random.choice(['', 'not '])}{part}"
+            if self.random.randrange(4) == 0:
+                text = self.random.choice(["( {} )", "not ( {} )"]).format(text)
+        return text
+
+    def saying(self, most, is_bare=False):
+        """A saying whose blocks have at most so many bound names; it has a block if it is to be bare."""
+        parts = [self.block(most, is_bare)] if most else []
+        for _ in range(self.random.choice([0, 0, 1, 2])):
+            left = most - sum(plain_sayings.bound_names(part) for part in parts)
+            if left and (is_bare or self.random.randrange(3)):
+                parts.append(self.block(left, is_bare))
+            elif not is_bare:
+                parts.append(self.part(False))
+        return self.put_together(parts or [self.part(False)])
 
     def world(self, many):
         """The text of a world of so many things with names that are no letters of a form."""

@@ -92,3 +92,79 @@ def wrong_line(scene, text):
             blocks.pop()
         is_over = kind == "gives"
     return None if is_over else len(lines) + 1
+
+
+# Sayings [13].
+
+def wrong_word(scene, text):
+    """The index of the first wrong word of a saying, or the number of words if some are lacking, or None."""
+    words = text.split(" ") if text else []
+    # What is open, the innermost last: "(", "not" and "block".
+    stack = []
+    parts, blocks, at = 0, 0, 0
+    while True:
+        # Something that can be true or false comes next.
+        word = words[at] if at < len(words) else None
+        if word in ("not", "("):
+            if len([sign for sign in stack if sign != "block"]) == 10:
+                return at
+            stack.append(word)
+            at += 1
+            continue
+        if word in ("all", "some"):
+            if "block" in stack or blocks == 3:
+                return at
+            wrong, at = block_head(words, at)
+            if wrong is not None:
+                return wrong
+            blocks += 1
+            stack.append("block")
+            continue
+        wrong, at = (at, at) if parts == 8 else part_at(scene, words, at)
+        if wrong is not None:
+            return wrong
+        parts += 1
+        # Behind it brackets are closed, or another one comes.
+        while True:
+            while stack[-1:] == ["not"]:
+                stack.pop()
+            if words[at:at + 1] != [")"] or not stack:
+                break
+            stack.pop()
+            at += 1
+        if at == len(words) and not stack:
+            return None
+        if words[at:at + 1] not in (["and"], ["or"]):
+            return at
+        at += 1
+
+
+def block_head(words, at):
+    """(first wrong index or None, index behind) of `all NAME (` or `all NAME NAME (`."""
+    names = []
+    for to in range(at + 1, len(words) + 1):
+        word = words[to] if to < len(words) else ""
+        if word == "(" and names:
+            return None, to + 1
+        if len(names) == 2 or word in names or not re.fullmatch(NAME, word):
+            return to, to
+        names.append(word)
+    return len(words), len(words)
+
+
+def part_at(scene, words, at):
+    """(first wrong index or None, index behind) of the part at an index."""
+    forms = [[NAME, "missing"], [NAME, "is", NAME], [NAME, "ahead", NAME, one_of(scene.rows)]]
+    if scene.marks:
+        forms.append([NAME, "has", one_of(scene.marks)])
+    if scene.has_lots:
+        forms.append([NAME, "with", NAME])
+    wrong = at
+    for form in forms:
+        for many, pattern in enumerate(form):
+            if at + many >= len(words) or not re.fullmatch(pattern, words[at + many]):
+                wrong = max(wrong, at + many)
+                break
+        else:
+            return None, at + len(form)
+    return wrong, wrong

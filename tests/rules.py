@@ -48,6 +48,10 @@ OPERATORS = (ast.Add, ast.Sub, ast.Mult, ast.FloorDiv, ast.Mod, ast.Pow, ast.LSh
 ITERATED = {"zip", "enumerate", "reversed", "range", "items", "keys", "values", "map"}
 ITERATORS = {"list", "tuple", "dict", "sorted", "sum", "any", "all", "enumerate", "zip", "min", "max", "len", "reversed",
              "join"}
+TWO_SIDED = {f"__{name}__" for name in """lt le gt ge ne add sub mul floordiv mod pow and or xor lshift rshift contains
+getitem""".split()}
+ONE_SIDED = {f"__{name}__" for name in "neg pos invert abs bool".split()}
+CHANGING = set("append clear extend insert pop remove reverse setdefault sort update add discard".split())
 FUNCTIONS = (ast.FunctionDef, ast.Lambda)
 COMPREHENSIONS = (ast.ListComp, ast.SetComp, ast.DictComp, ast.GeneratorExp)
 
@@ -259,6 +263,76 @@ def check_method_names(source, sources):
         plain = {part.name for part in node.body if isinstance(part, ast.FunctionDef) and part.decorator_list}
         for name in sorted(methods & stored - plain):
             yield source.at(node), f"{name} is a method and an attribute"
+
+
+def check_operators(source, sources):
+    """L5 operators and properties modify nothing that they did not create, and have the parameters that they need."""
+    for node in source.nodes(ast.FunctionDef):
+        if not is_operator(node) or node.name == "__setitem__":
+            continue
+        if len(node.args.args) != 1 + (node.name in TWO_SIDED) or node.args.defaults or node.args.vararg or node.args.kwarg:
+            yield source.at(node), f"the parameters of {node.name}"
+        for part in ast.walk(node):
+            if isinstance(part, (ast.Attribute, ast.Subscript)) and not isinstance(part.ctx, ast.Load):
+                yield source.at(part), f"{node.name} assigns an attribute or an item"
+            if isinstance(part, ast.Call) and isinstance(part.func, ast.Attribute) and part.func.attr in CHANGING:
+                yield source.at(part), f"{node.name} calls {part.func.attr}"
+    for node in source.nodes(ast.Name):
+        if node.id == "NotImplemented":
+            functions = [part for part in source.nodes(ast.FunctionDef) if node in ast.walk(part)]
+            is_returned = isinstance(source.parents[node], ast.Return)
+            if not is_returned or not [part for part in functions if part.name in TWO_SIDED | {"__eq__"}]:
+                yield source.at(node), "NotImplemented that is not returned by an operator"
+
+
+def is_operator(node):
+    """Whether a function is an operator's method or a property."""
+    return node.name in TWO_SIDED | ONE_SIDED or "property" in [ast.unparse(part) for part in node.decorator_list]
+
+
+def check_families(source, sources):
+    """L5 no class with a base class or a subclass has `<` and `>`, or `<=` and `>=`; none stores what is a property."""
+    properties = {node.name for file in sources for node in file.nodes(ast.FunctionDef) if node.decorator_list}
+    for node in source.nodes(ast.Attribute):
+        if isinstance(node.ctx, ast.Store) and node.attr in properties:
+            yield source.at(node), f"{node.attr} is a property of a class, and is assigned"
+    bases = {ast.unparse(base) for file in sources for node in file.nodes(ast.ClassDef) for base in node.bases}
+    for node in source.nodes(ast.ClassDef):
+        names = {part.name for part in node.body if isinstance(part, ast.FunctionDef)}
+        if (node.bases or node.name in bases) and ({"__lt__", "__gt__"} <= names or {"__le__", "__ge__"} <= names):
+            yield source.at(node), "both sides of an order in a family of classes"
+
+
+def check_sorted(source, sources):
+    """L5 beside a class with an order `sorted`, `min` and `max` take what is plainly numbers or strings."""
+    if not own_methods(sources) & {"__lt__", "__le__", "__gt__", "__ge__"}:
+        return
+    for node in source.nodes(ast.Call):
+        if called_name(node) in ("sorted", "min", "max") and not any(map(is_plainly_number_or_string, node.args)):
+            if not (isinstance(node.args[0], ast.ListComp) and is_plainly_number_or_string(node.args[0].elt)):
+                yield source.at(node), f"{called_name(node)} of what may be anything"
+
+
+def is_plainly_number_or_string(node):
+    if isinstance(node, ast.Call):
+        return called_name(node) in ("len", "int", "ord", "str", "repr")
+    return isinstance(node, (ast.Constant, ast.JoinedStr))
+
+
+def check_finally(source, sources):
+    """L6 a `finally` only assigns names and attributes, perhaps where one is None or not None."""
+    for node in source.nodes(ast.Try):
+        left = list(node.finalbody)
+        while left:
+            part = left.pop()
+            if isinstance(part, ast.If) and re.fullmatch(r"[\w.]+ is (not )?None", ast.unparse(part.test)):
+                left.extend(part.body + part.orelse)
+            elif isinstance(part, ast.Assign):
+                sides = [*part.targets, part.value]
+                if not all(isinstance(side, (ast.Name, ast.Attribute, ast.Constant)) for side in sides):
+                    yield source.at(part), "an assignment that may not stand in a finally"
+            elif not isinstance(part, ast.Pass):
+                yield source.at(part), "a statement that may not stand in a finally"
 
 
 def check_statements(source, sources):
@@ -538,7 +612,6 @@ def check_targets(source, sources):
 
 def check_module_values(source, sources):
     """L15 lists and dicts at module level are only read."""
-    changing = set("append clear extend insert pop remove reverse setdefault sort update add discard".split())
     names = [node.targets[0].id for node in source.tree.body
              if isinstance(node, ast.Assign) and isinstance(node.value, (ast.List, ast.Dict))]
     for node in source.nodes(ast.Name):
@@ -546,7 +619,7 @@ def check_module_values(source, sources):
             continue
         parent = source.parents[node]
         is_read = isinstance(parent, (ast.Subscript, ast.Compare, ast.For, ast.comprehension))
-        is_asked = isinstance(parent, ast.Attribute) and parent.attr not in changing
+        is_asked = isinstance(parent, ast.Attribute) and parent.attr not in CHANGING
         is_copied = isinstance(parent, ast.Call) and called_name(parent) in ("list", "dict", "len", "sorted", "tuple")
         if not (is_read or is_asked or is_copied):
             yield source.at(node), f"{node.id} is handed on"
@@ -631,4 +704,5 @@ CHECKS = [check_files, check_imports, check_cycles, check_module_level, check_fu
           check_method_names, check_statements, check_errors, check_values, check_builtins, check_sizes, check_names,
           check_sets, check_characters, check_shadows, check_barred_names, check_is, check_calls, check_iterated,
           check_methods, check_own_attributes, check_strings, check_equality, check_generators, check_lambdas,
-          check_targets, check_module_values, check_stars, check_nested]
+          check_targets, check_module_values, check_stars, check_nested, check_operators, check_families, check_sorted,
+          check_finally]

@@ -8,7 +8,7 @@ from tests.rules import PACKAGE, Source, complaints
 
 FOLDER = os.path.join(os.path.dirname(os.path.dirname(os.path.abspath(__file__))), PACKAGE)
 
-# What the interface lists for each module that has landed: functions (None), and classes with their methods.
+# What the interface lists for each module: functions (None), and classes with their methods.
 INTERFACE = {
     "errors": {name: ["__init__"] for name in """BadScene BadWorld BadScript BadSaying BadWalk NoThing NoRow NoMark
                BadInputs NotBare BadName NoButton Taken NoGuard Barred""".split()}
@@ -19,6 +19,12 @@ INTERFACE = {
     "scripts": {"Script": ["__init__", "run", "steps", "visited", "after"]},
     "compare": {name: None for name in "parting alike beyond is_within leaving leave_alike hanging".split()},
     "cases": {"cases": None, "case_of": None},
+    "sayings": {"Saying": ["__init__", "holds"]} | {name: None for name in "breaking always breach keeps".split()},
+    "kept": {"kept_part": None, "left_out": None},
+    "walks": {"Walk": ["__init__", "at", "__add__", "__invert__", "__eq__", "__le__", "__lt__", "__ge__", "__gt__", "places",
+                       "final", "script"], "walk_parting": None},
+    "halls": {"Hall": ["__init__", "world", "__setitem__", "__getitem__", "__contains__", "__len__", "drop", "press",
+                       "add_guard", "drop_guard", "guards", "undo", "attempt"]},
 }
 
 # For each rule, lines that break it: each must be complained about under the number of the rule.
@@ -44,6 +50,21 @@ BREACHES = [
     ("L5", "class A:\n    def __getitem__(self, at):\n        return at\n"),
     ("L5", "def f():\n    class A:\n        pass\n"),
     ("L5", "class A:\n    def f(self):\n        pass\n\n    def f(self):\n        pass\n"),
+    ("L5", "class A:\n    def __lt__(self, other):\n        return True\n\n\ndef f(x):\n    return sorted(x)\n"),
+    ("L5", "class A:\n    def __lt__(self, other):\n        return True\n\n\ndef f(x):\n    return max([y.n for y in x])\n"),
+    ("L5", "class A:\n    def __add__(self, other):\n        self.n = 1\n        return self\n"),
+    ("L5", "class A:\n    def __contains__(self, x):\n        self.n[x] = 1\n        return True\n"),
+    ("L5", "class A:\n    def __iter__(self):\n        raise TypeError('')\n\n    def __getitem__(self, at):\n"
+           "        self.n.pop()\n        return at\n"),
+    ("L5", "class A:\n    @property\n    def n(self):\n        return 1\n\n\nclass B:\n    def __init__(self):\n        self.n = 1\n"),
+    ("L5", "class A:\n    @property\n    def n(self):\n        self.m += 1\n        return 1\n"),
+    ("L5", "class A:\n    def f(self):\n        return NotImplemented\n"),
+    ("L5", "class A:\n    def __add__(self, other, more):\n        return 1\n"),
+    ("L5", "class A:\n    def __lt__(self, other):\n        return True\n\n    def __gt__(self, other):\n        return True\n"
+           "\n\nclass B(A):\n    pass\n"),
+    ("L6", "def f(x):\n    try:\n        x()\n    finally:\n        x()\n"),
+    ("L6", "def f(x):\n    try:\n        x()\n    finally:\n        if x == 1:\n            x = 2\n"),
+    ("L6", "def f(x):\n    try:\n        x()\n    finally:\n        x[0] = 2\n"),
     ("L6", "def f():\n    global A\n"),
     ("L6", "def f(x):\n    x + 1\n"),
     ("L6", "async def f():\n    pass\n"),
